@@ -8,7 +8,7 @@ import (
 	"remontoir/verdict"
 )
 
-// What follows is a system by the words of all chapters, as plain as it can be: tasks and jobs are told apart by where they are, and nothing is checked for a second time. Only whether tasks fit is asked of a layer.
+// What follows is a system by the words of all chapters, as plain as it can be: tasks and jobs are told apart by where they are, and nothing is checked for a second time. Only whether a task is valid, and whether tasks fit, is asked of a layer.
 
 type plainTask struct {
 	api.Task
@@ -248,7 +248,8 @@ func (p *plainPart) passes(j *plainJob) bool {
 				continue
 			}
 			for _, x := range p.tasks {
-				if x.D <= j.of.D && task.Uses(x.Task, s.Res) {
+				uses := func(y api.Sec) bool { return y.Res == s.Res }
+				if x.D <= j.of.D && slices.ContainsFunc(x.Secs, uses) {
 					return false
 				}
 			}
